@@ -1,0 +1,46 @@
+// Package stagehand: programs that show what they have: see DOC.md.
+package stagehand
+
+import (
+	"stagehand/api"
+	"stagehand/program"
+)
+
+// Check tells what is wrong with a program (P3 to P5).
+func Check(text string) error {
+	_, err := program.Read(text)
+	return err
+}
+
+// Reckon tells what a function of a program gives (P6).
+func Reckon(text string, name string, args []string) (string, error) { return "", nil }
+
+// App is a program that runs.
+type App struct{}
+
+// New begins a program (P7).
+func New(text string) (*App, error) { return nil, nil }
+
+// Model tells the model (P7).
+func (a *App) Model() string { return "" }
+
+// Send lays a message behind those that wait (P8).
+func (a *App) Send(value string) error { return nil }
+
+// Pump handles messages (P8).
+func (a *App) Pump(most int) int { return 0 }
+
+// Frame shows what there is (P9, P10).
+func (a *App) Frame() error { return nil }
+
+// Tree tells what is shown (P11).
+func (a *App) Tree() string { return "" }
+
+// Event tells a node that something has happened (P12).
+func (a *App) Event(path []int, name string) (int, error) { return 0, nil }
+
+// Scribble writes on a node (P11).
+func (a *App) Scribble(path []int, text string) error { return nil }
+
+// Counts tells how often what was (P13).
+func (a *App) Counts() api.Count { return api.Count{} }
