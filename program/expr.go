@@ -19,50 +19,81 @@ type Program struct {
 }
 
 // Expr is one of the types below; what is done with one goes by a type switch.
-type Expr interface{ isExpr() }
+type Expr interface{ Place() int }
+
+// Spot is the byte at which an expr begins.
+type Spot int
+
+// Place tells that byte.
+func (s Spot) Place() int { return int(s) }
 
 type (
 	// Number is a number as it is written in a program.
-	Number struct{ Value int64 }
+	Number struct {
+		Spot
+		Value int64
+	}
 
 	// Text is a text as it is written in a program.
-	Text struct{ Value string }
+	Text struct {
+		Spot
+		Value string
+	}
 
 	// Variable is a name that stands as an expr.
-	Variable struct{ Name Name }
+	Variable struct {
+		Spot
+		Word string
+	}
 
 	// List makes a list.
-	List struct{ Items []Expr }
+	List struct {
+		Spot
+		Items []Expr
+	}
 
 	// If chooses Then, unless Condition is 0.
-	If struct{ Condition, Then, Else Expr }
+	If struct {
+		Spot
+		Condition, Then, Else Expr
+	}
 
 	// Let gives Value a name within Body.
 	Let struct {
+		Spot
 		Name        Name
 		Value, Body Expr
 	}
 
 	// Binary is one of the operations on two values.
 	Binary struct {
+		Spot
 		Operation     Operation
 		First, Second Expr
 	}
 
 	// Len asks how long something is.
-	Len struct{ Of Expr }
+	Len struct {
+		Spot
+		Of Expr
+	}
 
-	// Set lays a value at a place of a list.
-	Set struct{ List, Place, Value Expr }
+	// Set lays a value at an index of a list.
+	Set struct {
+		Spot
+		List, Index, Value Expr
+	}
 
 	// Call calls a function.
 	Call struct {
+		Spot
 		Function  Name
 		Arguments []Expr
 	}
 
 	// Map calls a function for each value of a list.
 	Map struct {
+		Spot
 		Function Name
 		List     Expr
 	}
@@ -80,15 +111,3 @@ const (
 	At   Operation = "at"
 	Join Operation = "join"
 )
-
-func (Number) isExpr()   {}
-func (Text) isExpr()     {}
-func (Variable) isExpr() {}
-func (List) isExpr()     {}
-func (If) isExpr()       {}
-func (Let) isExpr()      {}
-func (Binary) isExpr()   {}
-func (Len) isExpr()      {}
-func (Set) isExpr()      {}
-func (Call) isExpr()     {}
-func (Map) isExpr()      {}

@@ -38,8 +38,8 @@ func checkFunction(function Function, ahead arities) error {
 func checkExpr(expr Expr, scope []string, ahead arities) error {
 	switch e := expr.(type) {
 	case Variable:
-		if !slices.Contains(scope, e.Name.Word) {
-			return wrongName(e.Name, api.ErrName)
+		if !slices.Contains(scope, e.Word) {
+			return api.Wrong{Place: e.Place(), Cause: api.ErrName}
 		}
 	case Let:
 		if err := checkExpr(e.Value, scope, ahead); err != nil {
@@ -61,7 +61,7 @@ func checkExpr(expr Expr, scope []string, ahead arities) error {
 	case If:
 		return checkExprs([]Expr{e.Condition, e.Then, e.Else}, scope, ahead)
 	case Set:
-		return checkExprs([]Expr{e.List, e.Place, e.Value}, scope, ahead)
+		return checkExprs([]Expr{e.List, e.Index, e.Value}, scope, ahead)
 	case Binary:
 		return checkExprs([]Expr{e.First, e.Second}, scope, ahead)
 	case Len:
@@ -97,17 +97,4 @@ func within(scope []string, name Name) []string {
 
 func wrongName(name Name, cause error) error {
 	return api.Wrong{Place: name.Place, Cause: cause}
-}
-
-func checkMain(functions []Function) error {
-	if has(functions, "init", 0) && has(functions, "update", 2) && has(functions, "view", 1) {
-		return nil
-	}
-	return api.ErrMain
-}
-
-func has(functions []Function, word string, parameters int) bool {
-	return slices.ContainsFunc(functions, func(f Function) bool {
-		return f.Name.Word == word && len(f.Parameters) == parameters
-	})
 }

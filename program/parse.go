@@ -103,18 +103,18 @@ func (p *parser) expr(first token.Token) (Expr, error) {
 	case token.Number:
 		return numberOf(first)
 	case token.Text:
-		return Text{Value: first.Body}, nil
+		return Text{Spot: Spot(first.Place), Value: first.Body}, nil
 	case token.Word:
 		name, err := nameOf(first)
-		return Variable{Name: name}, err
+		return Variable{Spot: Spot(first.Place), Word: name.Word}, err
 	}
 	if err := p.enter(first); err != nil {
 		return nil, err
 	}
-	return p.form()
+	return p.form(Spot(first.Place))
 }
 
-func (p *parser) form() (Expr, error) {
+func (p *parser) form(spot Spot) (Expr, error) {
 	word, err := p.tokens.Next()
 	if err != nil {
 		return nil, err
@@ -133,7 +133,7 @@ func (p *parser) form() (Expr, error) {
 	if err != nil {
 		return nil, err
 	}
-	return build(word.Body, name, parts), nil
+	return build(word.Body, spot, name, parts), nil
 }
 
 // exprs takes that many exprs, or any, and the bracket that closes what they stand in.
@@ -186,7 +186,7 @@ func numberOf(number token.Token) (Expr, error) {
 	if err != nil {
 		return nil, misplaced(number)
 	}
-	return Number{Value: value}, nil
+	return Number{Spot: Spot(number.Place), Value: value}, nil
 }
 
 func misplaced(found token.Token) error {

@@ -1,7 +1,11 @@
 // Package program reads programs, and tells what is wrong with them.
 package program
 
-import "stagehand/api"
+import (
+	"slices"
+
+	"stagehand/api"
+)
 
 // Read gives the program that a text is, or the first thing that is wrong with it: an error in which errors.As finds an api.Wrong.
 func Read(text string) (Program, error) {
@@ -15,8 +19,27 @@ func Read(text string) (Program, error) {
 	if err := checkNames(functions); err != nil {
 		return Program{}, err
 	}
-	if err := checkMain(functions); err != nil {
-		return Program{}, api.Wrong{Place: len(text), Cause: err}
+	read := Program{Functions: functions}
+	if !read.hasMain() {
+		return Program{}, api.Wrong{Place: len(text), Cause: api.ErrMain}
 	}
-	return Program{Functions: functions}, nil
+	return read, nil
+}
+
+func (p Program) hasMain() bool {
+	_, hasInit := p.Find("init", 0)
+	_, hasUpdate := p.Find("update", 2)
+	_, hasView := p.Find("view", 1)
+	return hasInit && hasUpdate && hasView
+}
+
+// Find gives the function that has this name and as many parameters, if there is one.
+func (p Program) Find(word string, parameters int) (Function, bool) {
+	i := slices.IndexFunc(p.Functions, func(f Function) bool {
+		return f.Name.Word == word && len(f.Parameters) == parameters
+	})
+	if i < 0 {
+		return Function{}, false
+	}
+	return p.Functions[i], true
 }

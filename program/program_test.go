@@ -3,6 +3,7 @@ package program
 import (
 	"errors"
 	"reflect"
+	"slices"
 	"testing"
 
 	"stagehand/api"
@@ -30,53 +31,57 @@ func unplaced(expr Expr) Expr {
 		return done
 	}
 	switch e := expr.(type) {
+	case Number:
+		return Number{0, e.Value}
+	case Text:
+		return Text{0, e.Value}
 	case Variable:
-		return named(e.Name.Word)
+		return named(e.Word)
 	case List:
-		return List{all(e.Items)}
+		return List{0, all(e.Items)}
 	case If:
-		return If{unplaced(e.Condition), unplaced(e.Then), unplaced(e.Else)}
+		return If{0, unplaced(e.Condition), unplaced(e.Then), unplaced(e.Else)}
 	case Let:
-		return Let{Name{Word: e.Name.Word}, unplaced(e.Value), unplaced(e.Body)}
+		return Let{0, Name{Word: e.Name.Word}, unplaced(e.Value), unplaced(e.Body)}
 	case Binary:
-		return Binary{e.Operation, unplaced(e.First), unplaced(e.Second)}
+		return Binary{0, e.Operation, unplaced(e.First), unplaced(e.Second)}
 	case Len:
-		return Len{unplaced(e.Of)}
+		return Len{0, unplaced(e.Of)}
 	case Set:
-		return Set{unplaced(e.List), unplaced(e.Place), unplaced(e.Value)}
+		return Set{0, unplaced(e.List), unplaced(e.Index), unplaced(e.Value)}
 	case Call:
-		return Call{Name{Word: e.Function.Word}, all(e.Arguments)}
+		return Call{0, Name{Word: e.Function.Word}, all(e.Arguments)}
 	case Map:
-		return Map{Name{Word: e.Function.Word}, unplaced(e.List)}
+		return Map{0, Name{Word: e.Function.Word}, unplaced(e.List)}
 	}
 	return expr
 }
 
-func named(word string) Expr { return Variable{Name{Word: word}} }
+func named(word string) Expr { return Variable{0, word} }
 
 func TestTrees(t *testing.T) {
 	x, y, z := named("x"), named("y"), named("z")
 	cases := map[string]Expr{
-		"5":                       Number{5},
-		"-007":                    Number{-7},
-		"-999999999":              Number{-999999999},
-		"''":                      Text{""},
-		"' list '":                Text{" list "},
+		"5":                       Number{0, 5},
+		"-007":                    Number{0, -7},
+		"-999999999":              Number{0, -999999999},
+		"''":                      Text{0, ""},
+		"' list '":                Text{0, " list "},
 		"x":                       x,
 		"(list)":                  List{},
-		"(list x 1 (list))":       List{[]Expr{x, Number{1}, List{}}},
-		"(if x y z)":              If{x, y, z},
-		"(let a x (add a y))":     Let{Name{Word: "a"}, x, Binary{Add, named("a"), y}},
-		"(sub x y)":               Binary{Sub, x, y},
-		"(mul x y)":               Binary{Mul, x, y},
-		"(eq x y)":                Binary{Eq, x, y},
-		"(less x y)":              Binary{Less, x, y},
-		"(at x y)":                Binary{At, x, y},
-		"(join x y)":              Binary{Join, x, y},
-		"(len x)":                 Len{x},
-		"(set x y z)":             Set{x, y, z},
-		"(call f (call f z))":     Call{Name{Word: "f"}, []Expr{Call{Name{Word: "f"}, []Expr{z}}}},
-		"(map f (if x y(len z)))": Map{Name{Word: "f"}, If{x, y, Len{z}}},
+		"(list x 1 (list))":       List{0, []Expr{x, Number{0, 1}, List{}}},
+		"(if x y z)":              If{0, x, y, z},
+		"(let a x (add a y))":     Let{0, Name{Word: "a"}, x, Binary{0, Add, named("a"), y}},
+		"(sub x y)":               Binary{0, Sub, x, y},
+		"(mul x y)":               Binary{0, Mul, x, y},
+		"(eq x y)":                Binary{0, Eq, x, y},
+		"(less x y)":              Binary{0, Less, x, y},
+		"(at x y)":                Binary{0, At, x, y},
+		"(join x y)":              Binary{0, Join, x, y},
+		"(len x)":                 Len{0, x},
+		"(set x y z)":             Set{0, x, y, z},
+		"(call f (call f z))":     Call{0, Name{Word: "f"}, []Expr{Call{0, Name{Word: "f"}, []Expr{z}}}},
+		"(map f (if x y(len z)))": Map{0, Name{Word: "f"}, If{0, x, y, Len{0, z}}},
 	}
 	for text, want := range cases {
 		if got := unplaced(bodyOf(t, text)); !reflect.DeepEqual(got, want) {
@@ -88,9 +93,9 @@ func TestTrees(t *testing.T) {
 func TestFunctions(t *testing.T) {
 	read, err := Read(main)
 	want := []Function{
-		{Name{"init", 5}, nil, Number{0}},
-		{Name{"update", 21}, []Name{{"m", 29}, {"n", 31}}, Variable{Name{"n", 34}}},
-		{Name{"view", 42}, []Name{{"n", 48}}, Variable{Name{"n", 51}}},
+		{Name{"init", 5}, nil, Number{13, 0}},
+		{Name{"update", 21}, []Name{{"m", 29}, {"n", 31}}, Variable{34, "n"}},
+		{Name{"view", 42}, []Name{{"n", 48}}, Variable{51, "n"}},
 	}
 	if err != nil || !reflect.DeepEqual(read.Functions, want) {
 		t.Errorf("P3: %s is read as %v, %v, want %v", main, read.Functions, err, want)
@@ -108,5 +113,33 @@ func TestNothingBesideAnError(t *testing.T) {
 		if !errors.Is(err, want) || read.Functions != nil {
 			t.Errorf("P1: Read(%.40q): %v, %v, want nothing and %v", text, read, err, want)
 		}
+	}
+}
+
+func TestPlaces(t *testing.T) {
+	read, err := Read(main + "(fun f (x)\n (list 1 'a' x (len x)))")
+	if err != nil {
+		t.Fatal(err)
+	}
+	list := read.Functions[3].Body.(List)
+	first := len(main) + len("(fun f (x)\n ")
+	got := []int{list.Place(), list.Items[0].Place(), list.Items[1].Place(), list.Items[2].Place(), list.Items[3].Place()}
+	if want := []int{first, first + 6, first + 8, first + 12, first + 14}; !slices.Equal(got, want) {
+		t.Errorf("P3: places %v, want %v", got, want)
+	}
+}
+
+func TestFind(t *testing.T) {
+	read, _ := Read(main)
+	for _, function := range read.Functions {
+		for parameters := -1; parameters < 4; parameters++ {
+			found, there := read.Find(function.Name.Word, parameters)
+			if want := parameters == len(function.Parameters); there != want || there && found.Name != function.Name || !there && found.Body != nil {
+				t.Errorf("P6: Find(%s, %d): %v, %v", function.Name.Word, parameters, found, there)
+			}
+		}
+	}
+	if found, there := read.Find("none", 0); there || found.Body != nil {
+		t.Errorf("P6: Find(none, 0): %v, %v", found, there)
 	}
 }

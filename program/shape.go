@@ -35,22 +35,22 @@ func isReserved(word string) bool {
 }
 
 // build makes the expr of a form; name and parts are as the word's shape asks.
-func build(word string, name Name, parts []Expr) Expr {
+func build(word string, spot Spot, name Name, parts []Expr) Expr {
 	switch word {
 	case "list":
-		return List{Items: parts}
+		return List{Spot: spot, Items: parts}
 	case "call":
-		return Call{Function: name, Arguments: parts}
+		return Call{Spot: spot, Function: name, Arguments: parts}
 	case "map":
-		return Map{Function: name, List: parts[0]}
+		return Map{Spot: spot, Function: name, List: parts[0]}
 	case "let":
-		return Let{Name: name, Value: parts[0], Body: parts[1]}
+		return Let{Spot: spot, Name: name, Value: parts[0], Body: parts[1]}
 	case "if":
-		return If{Condition: parts[0], Then: parts[1], Else: parts[2]}
+		return If{Spot: spot, Condition: parts[0], Then: parts[1], Else: parts[2]}
 	case "set":
-		return Set{List: parts[0], Place: parts[1], Value: parts[2]}
+		return Set{Spot: spot, List: parts[0], Index: parts[1], Value: parts[2]}
 	case "len":
-		return Len{Of: parts[0]}
+		return Len{Spot: spot, Of: parts[0]}
 	}
-	return Binary{Operation: Operation(word), First: parts[0], Second: parts[1]}
+	return Binary{Spot: spot, Operation: Operation(word), First: parts[0], Second: parts[1]}
 }

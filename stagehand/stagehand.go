@@ -3,7 +3,10 @@ package stagehand
 
 import (
 	"stagehand/api"
+	"stagehand/fault"
 	"stagehand/program"
+	"stagehand/reckon"
+	"stagehand/value"
 )
 
 // Check tells what is wrong with a program (P3 to P5).
@@ -13,7 +16,37 @@ func Check(text string) error {
 }
 
 // Reckon tells what a function of a program gives (P6).
-func Reckon(text string, name string, args []string) (string, error) { return "", nil }
+func Reckon(text string, name string, args []string) (string, error) {
+	read, err := program.Read(text)
+	if err != nil {
+		return "", err
+	}
+	function, there := read.Find(name, len(args))
+	if !there {
+		return "", fault.Function
+	}
+	arguments, err := readAll(args)
+	if err != nil {
+		return "", err
+	}
+	given, err := reckon.Function(read, function, arguments)
+	if err != nil {
+		return "", err
+	}
+	return value.Write(given), nil
+}
+
+func readAll(written []string) ([]value.Value, error) {
+	var values []value.Value
+	for i, text := range written {
+		read, err := value.Read(text)
+		if err != nil {
+			return nil, fault.Argument{Index: i, Cause: err}
+		}
+		values = append(values, read)
+	}
+	return values, nil
+}
 
 // App is a program that runs.
 type App struct{}

@@ -5,6 +5,7 @@ import (
 	"strings"
 
 	"stagehand/api"
+	"stagehand/char"
 )
 
 // Kind tells tokens apart.
@@ -37,7 +38,7 @@ func NewReader(text string) *Reader { return &Reader{text: text} }
 
 // Next gives the next token, End as often as it is asked there, or an api.Wrong if the token is a wrong one.
 func (r *Reader) Next() (Token, error) {
-	r.place += run(r.text[r.place:], isBlank)
+	r.place += char.Run(r.text[r.place:], char.IsBlank)
 	rest := r.text[r.place:]
 	kind, length, err := measure(rest)
 	if err != nil {
@@ -60,10 +61,10 @@ func measure(rest string) (Kind, int, error) {
 	case first == '\'':
 		length, err := measureText(rest)
 		return Text, length, err
-	case first == '-' || isDigit(first):
+	case first == '-' || char.IsDigit(first):
 		length, err := measureNumber(rest)
 		return Number, length, err
-	case isLetter(first):
+	case char.IsLetter(first):
 		length, err := measureWord(rest)
 		return Word, length, err
 	}
@@ -71,7 +72,7 @@ func measure(rest string) (Kind, int, error) {
 }
 
 func measureText(rest string) (int, error) {
-	inside := run(rest[1:], isQuotable)
+	inside := char.Run(rest[1:], char.IsQuotable)
 	if inside > api.MaxQuoted || !strings.HasPrefix(rest[1+inside:], "'") {
 		return 0, api.ErrText
 	}
@@ -80,7 +81,7 @@ func measureText(rest string) (int, error) {
 
 func measureNumber(rest string) (int, error) {
 	unsigned := strings.TrimPrefix(rest, "-")
-	digits := run(unsigned, isDigit)
+	digits := char.Run(unsigned, char.IsDigit)
 	if digits == 0 || digits > api.MaxDigits {
 		return 0, api.ErrText
 	}
@@ -88,7 +89,7 @@ func measureNumber(rest string) (int, error) {
 }
 
 func measureWord(rest string) (int, error) {
-	letters := run(rest, isLetter)
+	letters := char.Run(rest, char.IsLetter)
 	if letters > api.MaxName {
 		return 0, api.ErrText
 	}
@@ -101,18 +102,3 @@ func body(kind Kind, written string) string {
 	}
 	return written
 }
-
-// run tells how many bytes at the head of a text are of one sort.
-func run(text string, is func(byte) bool) int {
-	for i := range len(text) {
-		if !is(text[i]) {
-			return i
-		}
-	}
-	return len(text)
-}
-
-func isBlank(b byte) bool    { return b == ' ' || b == '\n' }
-func isDigit(b byte) bool    { return '0' <= b && b <= '9' }
-func isLetter(b byte) bool   { return 'a' <= b && b <= 'z' }
-func isQuotable(b byte) bool { return 32 <= b && b <= 126 && b != '\'' }
