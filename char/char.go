@@ -11,6 +11,9 @@ func Run(text string, is func(byte) bool) int {
 	return len(text)
 }
 
+// Are tells whether all bytes of a text are of one sort.
+func Are(text string, is func(byte) bool) bool { return Run(text, is) == len(text) }
+
 // IsBlank: what may stand between the tokens of a program.
 func IsBlank(b byte) bool { return b == ' ' || b == '\n' }
 

@@ -28,3 +28,11 @@ func TestRun(t *testing.T) {
 		}
 	}
 }
+
+func TestAre(t *testing.T) {
+	for text, want := range map[string]bool{"": true, "1": true, "12": true, "a": false, "1a": false, "a1": false, "12a3": false} {
+		if got := Are(text, IsDigit); got != want {
+			t.Errorf("P11: %q is digits: %v, want %v", text, got, want)
+		}
+	}
+}

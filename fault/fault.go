@@ -12,13 +12,19 @@ import (
 type Why string
 
 const (
-	Kind     Why = "a value is not of the kind that is asked for"
-	Place    Why = "there is no such place in a list"
-	Weight   Why = "a value weighs too much"
-	Steps    Why = "there are too many steps"
-	Written  Why = "this is not a value as it is written"
-	Name     Why = "there is no such name"
-	Function Why = "there is no such function with as many parameters"
+	Kind      Why = "a value is not of the kind that is asked for"
+	Place     Why = "there is no such place in a list"
+	Weight    Why = "a value weighs too much"
+	Steps     Why = "there are too many steps"
+	Written   Why = "this is not a value as it is written"
+	Name      Why = "there is no such name"
+	Function  Why = "there is no such function with as many parameters"
+	Node      Why = "this is not a node"
+	Attribute Why = "this is not an attribute"
+	Pair      Why = "this is not a pair of a key and a node"
+	Key       Why = "a key is there already"
+	Nodes     Why = "there are too many nodes"
+	Scribble  Why = "this cannot be written on a node"
 )
 
 func (w Why) Error() string { return "stagehand: " + string(w) }
@@ -46,15 +52,16 @@ func Placed(place int, cause error) error {
 	return At{Byte: place, Cause: cause}
 }
 
-// Argument tells which argument of a call, from 0 on, a fault is in.
-type Argument struct {
+// In tells which one of several, from 0 on, a fault is in: an argument of a call, a node of an element.
+type In struct {
+	What  string
 	Index int
 	Cause error
 }
 
-func (a Argument) Error() string {
-	return "stagehand: argument " + strconv.Itoa(a.Index) + ": " + a.Cause.Error()
+func (i In) Error() string {
+	return "stagehand: " + i.What + " " + strconv.Itoa(i.Index) + ": " + i.Cause.Error()
 }
 
 // Unwrap: what is the fault in it.
-func (a Argument) Unwrap() error { return a.Cause }
+func (i In) Unwrap() error { return i.Cause }

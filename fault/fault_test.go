@@ -9,8 +9,8 @@ import (
 )
 
 func TestEveryFaultIsOne(t *testing.T) {
-	for _, why := range []Why{Kind, Place, Weight, Steps, Written, Name, Function} {
-		for _, err := range []error{why, At{3, why}, Argument{1, At{3, why}}} {
+	for _, why := range []Why{Kind, Place, Weight, Steps, Written, Name, Function, Node, Attribute, Pair, Key, Nodes, Scribble} {
+		for _, err := range []error{why, At{3, why}, In{"argument", 1, At{3, why}}, In{"node", 2, In{"attribute", 0, why}}} {
 			if !errors.Is(err, api.ErrFault) || !errors.Is(err, why) || errors.Is(err, api.ErrPath) {
 				t.Errorf("P6: %v is no fault, or another one", err)
 			}
@@ -22,13 +22,13 @@ func TestEveryFaultIsOne(t *testing.T) {
 }
 
 func TestPlaces(t *testing.T) {
-	err := Placed(9, Argument{2, Placed(5, Kind)})
+	err := Placed(9, In{"argument", 2, Placed(5, Kind)})
 	var at At
-	var argument Argument
+	var in In
 	if !errors.As(err, &at) || at.Byte != 5 {
 		t.Errorf("P6: %v is not at its innermost place", err)
 	}
-	if !errors.As(err, &argument) || argument.Index != 2 {
+	if !errors.As(err, &in) || in.What != "argument" || in.Index != 2 {
 		t.Errorf("P6: %v is not in its argument", err)
 	}
 }

@@ -3,6 +3,7 @@ package program
 
 import (
 	"slices"
+	"strings"
 
 	"stagehand/api"
 )
@@ -12,7 +13,7 @@ func Read(text string) (Program, error) {
 	if len(text) > api.MaxText {
 		return Program{}, api.Wrong{Place: 0, Cause: api.ErrLong}
 	}
-	functions, err := parse(text)
+	functions, err := parse(strings.Clone(text)) // so that nothing of what was handed in is kept
 	if err != nil {
 		return Program{}, err
 	}

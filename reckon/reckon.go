@@ -14,26 +14,22 @@ type machine struct {
 	steps   int
 }
 
-// Function gives what a function of a program gives for as many arguments as it has parameters, or a fault with its place. It begins with no steps.
-func Function(p program.Program, function program.Function, arguments []value.Value) (value.Value, error) {
+// Named gives what the function of this name gives for these arguments, or a fault, with its place in the program. It begins with no steps.
+func Named(p program.Program, name string, arguments ...value.Value) (value.Value, error) {
 	m := &machine{program: p}
-	return m.apply(function, arguments)
+	return m.call(name, arguments...)
 }
 
-func (m *machine) apply(function program.Function, arguments []value.Value) (value.Value, error) {
+func (m *machine) call(name string, arguments ...value.Value) (value.Value, error) {
+	function, there := m.program.Find(name, len(arguments))
+	if !there {
+		return nil, fault.Function
+	}
 	var names *scope
 	for i, parameter := range function.Parameters {
 		names = names.with(parameter.Word, arguments[i])
 	}
 	return m.reckon(function.Body, names)
-}
-
-func (m *machine) call(name string, arguments []value.Value) (value.Value, error) {
-	function, there := m.program.Find(name, len(arguments))
-	if !there {
-		return nil, fault.Function
-	}
-	return m.apply(function, arguments)
 }
 
 // reckon is a step, and sees to it that no value above the bound is handed on.
@@ -146,7 +142,7 @@ func (m *machine) callWith(e program.Call, names *scope) (value.Value, error) {
 	if err != nil {
 		return nil, err
 	}
-	return m.call(e.Function.Word, arguments)
+	return m.call(e.Function.Word, arguments...)
 }
 
 func (m *machine) mapOver(e program.Map, names *scope) (value.Value, error) {
@@ -160,7 +156,7 @@ func (m *machine) mapOver(e program.Map, names *scope) (value.Value, error) {
 	}
 	var mapped []value.Value
 	for _, item := range list.Items() {
-		next, err := m.call(e.Function.Word, []value.Value{item})
+		next, err := m.call(e.Function.Word, item)
 		if err != nil {
 			return nil, err
 		}

@@ -20,15 +20,11 @@ func given(t *testing.T, text string) (value.Value, error) {
 	if err != nil {
 		t.Fatalf("%s: %v", text, err)
 	}
-	function, there := read.Find("f", 1)
-	if !there {
-		t.Fatalf("%s: no f", text)
-	}
 	numbers := make([]value.Value, 598)
 	for i := range numbers {
 		numbers[i] = value.Number(i)
 	}
-	return Function(read, function, []value.Value{value.NewList(numbers)})
+	return Named(read, "f", value.NewList(numbers))
 }
 
 func TestFaultsHaveTheirPlaces(t *testing.T) {
@@ -79,6 +75,18 @@ func wantFault(t *testing.T, text string, why fault.Why, place int) {
 	var at fault.At
 	if got != nil || !errors.Is(err, api.ErrFault) || !errors.Is(err, why) || !errors.As(err, &at) || at.Byte != place {
 		t.Errorf("P6: %s: %v, %v, want %v at %d", text[len(head):], got, err, why, place)
+	}
+}
+
+func TestNoSuchFunction(t *testing.T) {
+	read, err := program.Read(head)
+	if err != nil {
+		t.Fatal(err)
+	}
+	for name, arguments := range map[string][]value.Value{"none": nil, "": nil, "init": {value.Number(1)}, "update": {value.Number(1)}, "view": nil} {
+		if got, err := Named(read, name, arguments...); got != nil || !errors.Is(err, fault.Function) {
+			t.Errorf("P6: %s of %v: %v, %v, want %v", name, arguments, got, err, fault.Function)
+		}
 	}
 }
 

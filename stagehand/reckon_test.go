@@ -13,8 +13,11 @@ import (
 	"stagehand/stagehand"
 )
 
-// helpers are functions to be called: bulk takes 100 steps of its own.
-var helpers = "(fun id (x) x) (fun dup (x) (list x x)) (fun sum (a b) (add a b)) (fun five () 5) (fun bad (x) (len 5)) (fun bulk (x) (len (list" + strings.Repeat(" 0", 98) + ")))"
+// bulk takes 100 steps of its own.
+var bulk = "(fun bulk (x) (len (list" + strings.Repeat(" 0", 98) + ")))"
+
+// helpers are functions to be called.
+var helpers = "(fun id (x) x) (fun dup (x) (list x x)) (fun sum (a b) (add a b)) (fun five () 5) (fun bad (x) (len 5)) " + bulk
 
 // bodied is a program whose function f has as many of the parameters x, y, z, and this body.
 func bodied(body string, parameters int) string {
