@@ -2,6 +2,7 @@ package node
 
 import (
 	"errors"
+	"slices"
 	"strings"
 	"testing"
 
@@ -135,5 +136,53 @@ func TestFindTellsTheStep(t *testing.T) {
 	}
 	if told := (NoNode{Step: 3}).Error(); !strings.Contains(told, "3") || errors.Is(NoNode{}, fault.Node) {
 		t.Errorf("P11: %s", told)
+	}
+}
+
+func TestWayTellsTheTags(t *testing.T) {
+	tag := func(function string, inner Node) *Tagged { return &Tagged{Function: function, Inner: inner} }
+	deep := keyed("c", "kj", text("k"), tag("g", lazy(tag("h", text("j")))))
+	middle := element("b", lazy(tag("d", tag("e", deep))), text("y"))
+	top := tag("p", tag("q", lazy(element("a", text("x"), middle))))
+	for _, one := range []struct {
+		path []int
+		tags []string // of each node on the way
+	}{
+		{nil, []string{"q p"}}, {[]int{0}, []string{"q p", "q p"}}, {[]int{1, 1}, []string{"q p", "q p", "q p"}},
+		{[]int{1, 0}, []string{"q p", "q p", "e d q p"}}, {[]int{1, 0, 0}, []string{"q p", "q p", "e d q p", "e d q p"}}, {[]int{1, 0, 1}, []string{"q p", "q p", "e d q p", "h g e d q p"}},
+	} {
+		way, err := Way(top, one.path)
+		var got []string
+		for _, found := range way {
+			got = append(got, strings.Join(found.Tags, " "))
+		}
+		if err != nil || !slices.Equal(got, one.tags) {
+			t.Errorf("P12: on the way to %v: %q, %v, want %q", one.path, got, err, one.tags)
+		}
+		if found, err := Find(top, one.path); err != nil || way[len(way)-1].Node != found {
+			t.Errorf("P12: the way to %v does not end there: %v", one.path, err)
+		}
+	}
+	way, err := Way(top, []int{1, 0})
+	if err != nil || len(way) != 3 || way[1].Node != middle || way[2].Node != deep {
+		t.Errorf("P12: %v, %v", way, err)
+	}
+	for _, path := range [][]int{{2}, {-1}, {0, 0}, {1, 0, 2}} {
+		if way, err := Way(top, path); way != nil || !errors.Is(err, api.ErrPath) {
+			t.Errorf("P12: the way to %v: %v, %v", path, way, err)
+		}
+	}
+}
+
+func TestHandlersOf(t *testing.T) {
+	handlers := []Handler{{Event: "go"}, {Event: "tap", Stops: true}}
+	plain, keys := &Element{Handlers: handlers}, &Keyed{Element: Element{Handlers: handlers}}
+	for _, one := range []struct {
+		node Node
+		want []Handler
+	}{{plain, handlers}, {keys, handlers}, {element("a", plain), nil}, {text("x"), nil}, {tagged(plain), nil}, {lazy(plain), nil}, {nil, nil}} {
+		if got := HandlersOf(one.node); !slices.Equal(got, one.want) {
+			t.Errorf("P12: handlers of %T: %v, want %v", one.node, got, one.want)
+		}
 	}
 }

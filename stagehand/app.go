@@ -8,6 +8,7 @@ import (
 
 	"stagehand/api"
 	"stagehand/char"
+	"stagehand/event"
 	"stagehand/fault"
 	"stagehand/node"
 	"stagehand/program"
@@ -52,20 +53,26 @@ func (a *App) Model() string {
 func (a *App) Send(value string) error {
 	a.lock.Lock()
 	defer a.lock.Unlock()
-	return a.lay(value)
+	return a.send(value)
 }
 
-func (a *App) lay(written string) error {
+func (a *App) send(written string) error {
 	message, err := value.Read(written)
 	if err != nil {
 		return err
 	}
-	if len(a.waiting) == api.MaxQueue {
-		a.counts.Dropped++
-		return nil
-	}
-	a.waiting = append(a.waiting, message)
+	a.lay(message)
 	return nil
+}
+
+// lay lets all of these messages wait, or drops all of them; it tells how many wait more than ahead.
+func (a *App) lay(messages ...value.Value) int {
+	if len(a.waiting)+len(messages) > api.MaxQueue {
+		a.counts.Dropped++
+		return 0
+	}
+	a.waiting = append(a.waiting, messages...)
+	return len(messages)
 }
 
 // Pump handles messages (P8).
@@ -137,7 +144,29 @@ func (a *App) Tree() string {
 }
 
 // Event tells a node that something has happened (P12).
-func (a *App) Event(path []int, name string) (int, error) { return 0, nil }
+func (a *App) Event(path []int, name string) (int, error) {
+	a.lock.Lock()
+	defer a.lock.Unlock()
+	way, err := node.Way(a.shown, path)
+	if err != nil {
+		return 0, err
+	}
+	return a.lay(a.messages(event.Ask(way, name))...), nil
+}
+
+// messages gives those of the handlers that have one; the others are faults.
+func (a *App) messages(handlers []event.Asked) []value.Value {
+	var messages []value.Value
+	for _, handler := range handlers {
+		message, err := handler.Message(a.program)
+		if err != nil {
+			a.countFault(err)
+			continue
+		}
+		messages = append(messages, message)
+	}
+	return messages
+}
 
 // Scribble writes on a node (P11).
 func (a *App) Scribble(path []int, text string) error {

@@ -19,3 +19,15 @@ func TestReadme(t *testing.T) {
 	wantTree(t, a, "<p#1>#2!'seen' '3'</p>")
 	wantUnscribbled(t, a, api.ErrPath, "seen", 1)
 }
+
+// TestReadmeEvent goes through what README.md shows of events.
+func TestReadmeEvent(t *testing.T) {
+	a := begun(t, "(fun more (m) (mul m 10)) (fun init () 0) (fun update (m n) (add n m)) (fun view (n) (list 'el' 'p' (list (list 'on' 'up' 1)) (list n (list 'tag' 'more' (list 'el' 'b' (list (list 'on' 'up' 1)) (list))))))")
+	wantFrame(t, a, nil)
+	wantEvent(t, a, 2, "up", 1)
+	wantPumped(t, a, 1, 1)
+	wantModel(t, a, "10")
+	wantPumped(t, a, 10, 1)
+	wantModel(t, a, "11")
+	wantNoEvent(t, a, "up", 2)
+}

@@ -14,11 +14,12 @@ import (
 type shape struct {
 	kind string // text, el, keyed, tag or lazy
 	word string // the text, the tag or the function
+	on   string // its handlers, as they are written
 	keys []string
 	in   []*shape
 }
 
-const shapeFunctions = "(fun same (x) x) (fun pick (x y) y) (fun box (x) (list 'el' 'b' (list (list 'id' 'b')) (list x)))"
+const shapeFunctions = "(fun same (x) x) (fun pick (x y) y) (fun box (x) (list 'el' 'b' (list (list 'id' 'b')) (list x))) (fun inc (x) (add x 1)) (fun wrap (x) (list 'w' x))"
 
 // written is the value of a shape; plain ones have what lazy nodes give instead of these, and no tags.
 func (s *shape) written(plain bool) string {
@@ -35,7 +36,7 @@ func (s *shape) written(plain bool) string {
 	case s.kind == "text":
 		return "'" + s.word + "'"
 	case s.kind == "el" || s.kind == "keyed":
-		return "('" + s.kind + "' '" + s.word + "' (('id' '" + s.word + "')) (" + all + "))"
+		return "('" + s.kind + "' '" + s.word + "' (('id' '" + s.word + "')" + s.on + ") (" + all + "))"
 	case plain && s.kind == "tag":
 		return all
 	case plain:
@@ -138,8 +139,11 @@ func (o *oracle) tree(s *shape, place string, path []int, was *oracle) string {
 	return told + "</" + s.word + ">"
 }
 
-// maker makes up shapes, the same ones in each run.
-type maker struct{ *rand.Rand }
+// maker makes up shapes, the same ones in each run; with handlers or without.
+type maker struct {
+	*rand.Rand
+	hears bool
+}
 
 func (m maker) pick(words ...string) string { return words[m.IntN(len(words))] }
 
@@ -153,11 +157,11 @@ func (m maker) shape(depth int) *shape {
 	case "text":
 		s.word = m.pick("x", "y", "z")
 	case "tag":
-		s.word, s.in = m.pick("same", "box"), []*shape{m.shape(depth - 1)}
+		s.word, s.in = m.pick("same", "box", "inc", "wrap"), []*shape{m.shape(depth - 1)}
 	case "lazy":
 		s.word, s.in = m.pick("same", "pick", "box"), []*shape{m.shape(depth - 1)}
 	default:
-		s.word = m.pick("a", "b")
+		s.word, s.on = m.pick("a", "b"), m.handlers()
 		for range m.IntN(4) {
 			s = m.grown(s, depth)
 		}
@@ -172,7 +176,7 @@ func (m maker) grown(s *shape, depth int) *shape {
 		return s
 	}
 	at := m.IntN(len(s.in) + 1)
-	grown := &shape{kind: s.kind, word: s.word, keys: s.keys, in: slices.Insert(slices.Clone(s.in), at, m.shape(depth-1))}
+	grown := &shape{kind: s.kind, word: s.word, on: s.on, keys: s.keys, in: slices.Insert(slices.Clone(s.in), at, m.shape(depth-1))}
 	if s.kind == "keyed" {
 		grown.keys = slices.Insert(slices.Clone(s.keys), at, key)
 	}
@@ -181,7 +185,7 @@ func (m maker) grown(s *shape, depth int) *shape {
 
 // changed is a shape with some change somewhere, often none.
 func (m maker) changed(s *shape, depth int) *shape {
-	changed := &shape{kind: s.kind, word: s.word, keys: slices.Clone(s.keys)}
+	changed := &shape{kind: s.kind, word: s.word, on: s.on, keys: slices.Clone(s.keys)}
 	for _, inner := range s.in {
 		changed.in = append(changed.in, m.changed(inner, depth-1))
 	}
@@ -199,6 +203,8 @@ func (m maker) changed(s *shape, depth int) *shape {
 		return m.grown(changed, max(depth, 1))
 	case chance < 8 && holds && len(s.in) > 1:
 		m.swap(changed)
+	case chance > 25 && holds:
+		changed.on = m.handlers()
 	case chance < 10 && holds && len(s.in) > 0:
 		at := m.IntN(len(s.in))
 		changed.in = slices.Delete(changed.in, at, at+1)
@@ -207,6 +213,16 @@ func (m maker) changed(s *shape, depth int) *shape {
 		}
 	}
 	return changed
+}
+
+// next is a changed shape, or a new one, if that would be too great to be shown.
+func (m maker) next(s *shape) *shape {
+	for _, next := range []*shape{m.changed(s, 3), s} {
+		if next.nodes() <= 60 && len(next.written(false)) < 500 && len(next.written(true)) < 500 {
+			return next
+		}
+	}
+	return m.shape(1)
 }
 
 func (m maker) swap(s *shape) {
@@ -232,17 +248,12 @@ func (s *shape) nodes() int {
 // TestP9MadeUpShapes shows one shape after the other, with scribbles in between, beside the same without lazy nodes and tags.
 func TestP9MadeUpShapes(t *testing.T) {
 	for seed := range uint64(150) {
-		m := maker{rand.New(rand.NewPCG(seed, 7))}
+		m := maker{Rand: rand.New(rand.NewPCG(seed, 7))}
 		a, plain := showing(t, shapeFunctions), showing(t, shapeFunctions)
 		o := &oracle{}
 		top := m.shape(4)
 		for range 25 {
-			if next := m.changed(top, 3); next.nodes() <= 60 && len(next.written(false)) < 500 && len(next.written(true)) < 500 {
-				top = next
-			}
-			if top.nodes() > 60 || len(top.written(false)) >= 500 || len(top.written(true)) >= 500 {
-				top = m.shape(1)
-			}
+			top = m.next(top)
 			wantShown(t, a, top.written(false), o.frame(top))
 			wantShown(t, plain, top.written(true), a.Tree())
 			if got := a.Counts().Lazies; got != o.reckoned {
@@ -262,12 +273,7 @@ func TestP9MadeUpShapes(t *testing.T) {
 
 func scribbleSomewhere(t *testing.T, m maker, o *oracle, apps ...*stagehand.App) {
 	t.Helper()
-	var places []string
-	for place := range o.paths {
-		places = append(places, place)
-	}
-	slices.Sort(places)
-	place, text := m.pick(places...), m.pick("", "one", "two")
+	place, text := m.pick(o.places()...), m.pick("", "one", "two")
 	o.scribbles[place] = text
 	for _, a := range apps {
 		wantScribbled(t, a, text, o.paths[place]...)
